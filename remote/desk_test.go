@@ -314,7 +314,12 @@ func TestLedgerRefusesTheChange(t *testing.T) {
 	_, e = h.change(c)
 	c.is("a full disk, the empty batch", e, api.ErrServer)
 
-	for act := 1; act <= 7; act++ { // five pages, a sync, the superblock
+	acts := actsOf(t, cs)
+	if acts != 8 { // five pages, a sync, the superblock, a sync
+		t.Fatalf("the change takes %d acts", acts)
+	}
+	through := 0
+	for act := 1; act <= acts; act++ {
 		h := built(t, 40, 4)
 		h.commits(put(keyK, "a")).commits(put(keyQ, "bc"))
 		c := h.session(fmt.Sprint("P21.12: power lost at act ", act), 2)
@@ -344,8 +349,26 @@ func TestLedgerRefusesTheChange(t *testing.T) {
 				c.fails("TakeFollow to what came through: %d, %v", v, e)
 			}
 			c.headIs(3, info.Sum)
+			through++
 		}
 	}
+	if through != 2 { // the superblock was written, or that and synced
+		t.Errorf("P21.12: the version came through %d times", through)
+	}
+}
+
+// actsOf tells how many writes and syncs the desk makes for a change behind the examples' version 2.
+func actsOf(t *testing.T, cs []api.Change) int {
+	t.Helper()
+	h := built(t, 40, 4)
+	h.commits(put(keyK, "a")).commits(put(keyQ, "bc"))
+	c := h.session("P21.12", 2)
+	before := h.d.Counts()
+	if v, e := h.change(c, cs...); v != 3 || e != api.OK {
+		t.Fatalf("P21.12: TakeChange: %d, %v", v, e)
+	}
+	now := h.d.Counts()
+	return now.Writes - before.Writes + now.Syncs - before.Syncs
 }
 
 // P21.12: a desk that was told to stop answers nothing more.
