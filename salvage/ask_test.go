@@ -167,3 +167,13 @@ func some(image []byte) string {
 	}
 	return strconv.Itoa(len(image)) + " bytes (not zero:" + used + ")"
 }
+
+// ofCut tells what Cut answers of a version that is there.
+func ofCut(t *testing.T, image []byte, version int) []byte {
+	t.Helper()
+	b, e := salvage.Cut(image, version)
+	if e != api.OK {
+		t.Fatalf("Cut(%d) = %v", version, e)
+	}
+	return b
+}

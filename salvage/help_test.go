@@ -319,3 +319,25 @@ func withNode(t *testing.T, image []byte, page int, change func(n *api.Node)) []
 	}
 	return laid(image, page, framed(n.Kind, page, is))
 }
+
+// seal lays a checksum behind a text, by the library's CRC-32.
+func seal(b []byte) []byte {
+	return binary.LittleEndian.AppendUint32(bytes.Clone(b), crc32.ChecksumIEEE(b))
+}
+
+// sealedSector lays the right checksum over a slot's first sector.
+func sealedSector(b []byte) []byte { return laid(b, 0, seal(b[:60])) }
+
+// histories are ledgers that began empty and such that were taken in, of several widths.
+func histories(t *testing.T) []history {
+	t.Helper()
+	one, four := made(t, 24, 1, story()...), made(t, 24, 4, story()...)
+	var puts [][]api.Change
+	for _, v := range []string{"a", "b", "c", "d", "e"} {
+		puts = append(puts, list(put(keyK, v)))
+	}
+	return []history{
+		one, four, made(t, 33, 32, append(story(), nil, list(put(keyA, "more"), put(keyB, "and more")))...), made(t, 16, 4, puts...),
+		shipped(t, 1, four), shipped(t, 3, four), shipped(t, 5, one), shipped(t, 6, four),
+	}
+}
